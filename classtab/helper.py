@@ -1,0 +1,44 @@
+"""What several modules need: whole numbers, all that can be reached, tables by numbers."""
+
+MOST_THINGS = 60
+
+
+def is_whole(thing):
+    """Whether a thing is a whole number; a truth is an int for Python, but none here."""
+    return isinstance(thing, int) and not isinstance(thing, bool)
+
+
+def are_things(thing, count):
+    """Whether a thing is a tuple of whole numbers from 0 to below count."""
+    return isinstance(thing, tuple) and all([is_whole(x) and 0 <= x < count for x in thing])
+
+
+def reached(start, onward, most):
+    """The sorted list of all that comes of start by onward, which tells a list for each one.
+
+    None where there are more than most: what is reached may be far too much to walk to its end.
+    """
+    seen = {start: True}
+    fresh = [start]
+    while fresh:
+        came = []
+        for one in fresh:
+            for other in onward(one):
+                if other not in seen:
+                    seen[other] = True
+                    came.append(other)
+            if len(seen) > most:
+                return None
+        fresh = came
+    return sorted(seen)
+
+
+def tabled(things, product):
+    """The table of some unlike things by their numbers, product(a, b) being what comes of two."""
+    numbers = {}
+    for k, thing in enumerate(things):
+        numbers[thing] = k
+    rows = []
+    for a in things:
+        rows.append(tuple([numbers[product(a, b)] for b in things]))
+    return tuple(rows)

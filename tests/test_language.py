@@ -1,0 +1,119 @@
+"""The package keeps to its part of Python: the rules that can be seen at a file's form."""
+
+import ast
+import pathlib
+import re
+import unittest
+
+PACKAGE = pathlib.Path(__file__).resolve().parent.parent / "classtab"
+FILES = sorted(path for path in PACKAGE.rglob("*") if "__pycache__" not in path.parts and path.is_file())
+NO_NODES = (
+    ast.With, ast.AsyncWith, ast.Match, ast.Delete, ast.Global, ast.Nonlocal, ast.Assert, ast.Yield, ast.YieldFrom,
+    ast.Await, ast.AsyncFor, ast.AsyncFunctionDef, ast.Import, ast.SetComp, ast.DictComp, ast.GeneratorExp,
+    ast.NamedExpr, ast.Starred, ast.Div, ast.MatMult,
+)
+OWN_NAMES = set(
+    "len range enumerate zip min max sum abs sorted reversed int str bool list tuple dict set frozenset isinstance ord "
+    "repr any all divmod Exception ValueError TypeError KeyError IndexError LookupError ZeroDivisionError "
+    "ArithmeticError OverflowError RuntimeError NotImplementedError AttributeError StopIteration".split()
+)
+NO_WORDS = re.compile(
+    r"\b(type|typing|typing_extensions|enum|Enum|IntEnum|StrEnum|Flag|IntFlag|Generic|Protocol|ABC|ABCMeta|namedtuple|"
+    r"NamedTuple|TypedDict|TYPE_CHECKING|abstractmethod)\b|dataclass|overload|contextmanager"
+)
+METHODS = ("__init__", "__eq__", "__repr__", "__str__", "__len__")
+
+
+def bound_names(tree):
+    """Every name that is given a value somewhere, with its node."""
+    for node in ast.walk(tree):
+        if isinstance(node, ast.Name) and isinstance(node.ctx, ast.Store):
+            yield node.id
+        elif isinstance(node, ast.arg):
+            yield node.arg
+        elif isinstance(node, (ast.FunctionDef, ast.ClassDef)):
+            yield node.name
+        elif isinstance(node, ast.Attribute) and isinstance(node.ctx, ast.Store):
+            yield node.attr
+
+
+class Language(unittest.TestCase):
+    def each_tree(self):
+        for path in FILES:
+            yield path, ast.parse(path.read_text(encoding="utf-8"))
+
+    def test_files(self):
+        self.assertIn(PACKAGE / "__init__.py", FILES)
+        for path in FILES:
+            self.assertRegex(path.name, r"^[a-z0-9_]+\.py$")
+            text = path.read_text(encoding="utf-8")
+            self.assertRegex(text, r"\A[ -~\n]*\Z", path)
+            self.assertIsNone(NO_WORDS.search(text), path)
+            lines = text.split("\n")
+            self.assertLessEqual(len(lines), 400, path)
+            self.assertLessEqual(max(len(line) for line in lines), 120, path)
+
+    def test_nodes(self):
+        for path, tree in self.each_tree():
+            for node in ast.walk(tree):
+                where = (path.name, getattr(node, "lineno", 0))
+                self.assertNotIsInstance(node, NO_NODES, where)
+                if isinstance(node, ast.Constant):
+                    self.assertNotIsInstance(node.value, (float, complex, bytes), where)
+                    self.assertNotIn("%", node.value if isinstance(node.value, str) else "", where)
+                if isinstance(node, ast.ListComp):
+                    self.assertEqual(len(node.generators), 1, where)
+                    self.assertLessEqual(len(node.generators[0].ifs), 1, where)
+                if isinstance(node, ast.Assign):
+                    self.assertEqual(len(node.targets), 1, where)
+                if isinstance(node, ast.Try):
+                    self.assertEqual(node.finalbody, [], where)
+                if isinstance(node, (ast.For, ast.While)):
+                    self.assertEqual(node.orelse, [], where)
+
+    def test_functions_and_classes(self):
+        for path, tree in self.each_tree():
+            for node in ast.walk(tree):
+                if isinstance(node, (ast.FunctionDef, ast.ClassDef)):
+                    where = (path.name, node.name)
+                    self.assertEqual(node.decorator_list, [], where)
+                if isinstance(node, ast.FunctionDef):
+                    self.assertLessEqual(node.end_lineno - node.lineno + 1, 40, where)
+                    found = (node.args.vararg, node.args.kwarg, node.args.kwonlyargs, node.args.posonlyargs)
+                    self.assertEqual(found, (None, None, [], []), where)
+                if isinstance(node, ast.ClassDef):
+                    self.assertLessEqual(len(node.bases), 1, where)
+                    self.assertEqual(node.keywords, [], where)
+
+    def test_names(self):
+        for path, tree in self.each_tree():
+            for name in bound_names(tree):
+                self.assertTrue(name in METHODS or re.match(r"^[A-Za-z][A-Za-z0-9_]*$", name), (path.name, name))
+            known = set(bound_names(tree)) | OWN_NAMES
+            for node in ast.walk(tree):
+                if isinstance(node, ast.ImportFrom):
+                    known.update(alias.asname or alias.name for alias in node.names)
+            for node in ast.walk(tree):
+                if isinstance(node, ast.Name) and path.name != "__main__.py":
+                    self.assertIn(node.id, known, (path.name, node.lineno))
+
+    def test_imports(self):
+        drawn = {}
+        for path, tree in self.each_tree():
+            drawn[path.stem] = []
+            for node in ast.walk(tree):
+                if isinstance(node, ast.ImportFrom):
+                    self.assertEqual(node.level, 0, path)
+                    self.assertIn(node, tree.body, path)
+                    if node.module != "__future__":
+                        self.assertRegex(node.module, r"^classtab\.[a-z0-9_]+$", path)
+                        self.assertNotIn("*", [alias.name for alias in node.names], path)
+                        drawn[path.stem].append(node.module.split(".")[1])
+        while drawn:
+            free = [name for name in drawn if not any(other in drawn for other in drawn[name])]
+            self.assertNotEqual(free, [], "files that draw from one another")
+            drawn = {name: drawn[name] for name in drawn if name not in free}
+
+
+if __name__ == "__main__":
+    unittest.main()
