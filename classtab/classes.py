@@ -10,7 +10,14 @@ def turnings(group, b):
 
 def classes_of(group):
     """The classes, rising tuples of things, by their least things."""
-    return tuple(sorted(set([turnings(group, b) for b in range(len(group))])))
+    found = []
+    seen = {}
+    for b in range(len(group)):
+        if b not in seen:
+            found.append(turnings(group, b))
+            for a in found[-1]:
+                seen[a] = True
+    return tuple(found)
 
 
 def class_numbers(group):

@@ -100,6 +100,15 @@ def scaled(one, k):
     return tuple([x * k for x in one])
 
 
+def gathered(numbers, often, start):
+    """Some NUMBERs, each so many times, added to a first one."""
+    found = start
+    for one, k in zip(numbers, often):
+        if k != 0:
+            found = plus(found, scaled(one, k))
+    return found
+
+
 def times(n, one, other):
     """One times the other."""
     powers = [0] * (len(one) + len(other) - 1)

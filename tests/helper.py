@@ -1,5 +1,7 @@
-"""What several tests need: groups that are made here, by hand, and plain things of all kinds."""
+"""What several tests need: groups, NUMBERs and spreads by hand, and plain things of all kinds."""
 
+import functools
+import math
 import random
 
 
@@ -50,10 +52,14 @@ def in_order(group, order):
     return tuple(tuple(order.index(group[a][b]) for b in order) for a in order)
 
 
-def shuffled(group, seed):
-    rest = list(range(1, len(group)))
+def some_order(count, seed):
+    rest = list(range(1, count))
     random.Random(seed).shuffle(rest)
-    return in_order(group, [0] + rest)
+    return [0] + rest
+
+
+def shuffled(group, seed):
+    return in_order(group, some_order(len(group), seed))
 
 
 def alternating(m):
@@ -69,6 +75,13 @@ def symmetric(m):
     return by_perms([(1, 0) + tuple(range(2, m)), tuple(range(1, m)) + (0,)])
 
 
+def on_vectors(q, makers):
+    """The group made by two by two squares of numbers, by their rests by q, as perms of the pairs but (0, 0)."""
+    places = [(x, y) for x in range(q) for y in range(q) if (x, y) != (0, 0)]
+    return by_perms([
+        tuple(places.index(((a * x + b * y) % q, (c * x + d * y) % q)) for x, y in places) for a, b, c, d in makers])
+
+
 def few_classes():
     """Groups of 1 to 60 things with at most sixteen classes, by names."""
     found = {
@@ -81,6 +94,26 @@ def few_classes():
         "a4twos": pairs_of(alternating(4), cyclic(2)), "a5": alternating(5),
     }
     return found
+
+
+def table_groups():
+    """More groups of 1 to 60 things with at most sixteen classes, each also with its things in another order."""
+    twos = pairs_of(cyclic(2), cyclic(2))
+    q8 = twisted(4, 2, 3, 2)
+    found = few_classes()
+    found.update({
+        "fifteen": cyclic(15), "thirteen": cyclic(13), "twotwotwotwo": pairs_of(twos, twos),
+        "fours": pairs_of(cyclic(4), cyclic(4)), "q8two": pairs_of(q8, cyclic(2)), "q16": twisted(8, 2, 7, 4),
+        "sd16": twisted(8, 2, 3), "d16": twisted(16, 2, 15), "m27": twisted(9, 3, 4), "d29": twisted(29, 2, 28),
+        "dic13": twisted(26, 2, 25, 13), "f52": twisted(13, 4, 5), "f39": twisted(13, 3, 3),
+        "a4four": pairs_of(alternating(4), cyclic(4)), "s4two": pairs_of(symmetric(4), cyclic(2)),
+        "d5s3": pairs_of(twisted(5, 2, 4), symmetric(3)), "f20three": pairs_of(twisted(5, 4, 2), cyclic(3)),
+        "sl23": on_vectors(3, [(1, 1, 0, 1), (1, 0, 1, 1)]),
+        "gl23": on_vectors(3, [(1, 1, 0, 1), (1, 0, 1, 1), (2, 0, 0, 1)]),
+        "f56": by_perms([(1, 0, 3, 2, 5, 4, 7, 6), (0, 2, 4, 6, 3, 1, 7, 5)]),
+        "f36": by_perms([(3, 4, 5, 6, 7, 8, 0, 1, 2), (0, 3, 6, 2, 5, 8, 1, 4, 7)]),
+    })
+    return with_orders(found)
 
 
 def sample_groups():
@@ -152,3 +185,165 @@ def untouched(test, ask, *things):
         return ask(*things)
     finally:
         test.assertEqual(repr(things), before)
+
+
+def refused(test, error, fields, ask, *things):
+    """Asked, it is refused with just this error, which keeps just these fields."""
+    with test.assertRaises(error) as caught:
+        untouched(test, ask, *things)
+    test.assertIs(type(caught.exception), error)
+    told(test, {name: getattr(caught.exception, name) for name in fields}, fields)
+
+
+def split(powers, divisor):
+    """What comes, and what remains, when a sum is divided by one with 1 at its highest power."""
+    rest = list(powers)
+    came = [0] * max(0, len(rest) - len(divisor) + 1)
+    for k in reversed(range(len(came))):
+        came[k] = rest[k + len(divisor) - 1]
+        for j, x in enumerate(divisor):
+            rest[k + j] -= came[k] * x
+    return came, rest[:len(divisor) - 1]
+
+
+def least_sums():
+    found = {1: [-1, 1]}
+    for n in range(2, 61):
+        left = [-1] + [0] * (n - 1) + [1]
+        for lesser in range(1, n):
+            if n % lesser == 0:
+                left, nothing = split(left, found[lesser])
+                if any(nothing):
+                    raise ArithmeticError("nothing remains")
+        found[n] = left
+    return found
+
+
+LEAST = least_sums()
+
+
+def coprime(n):
+    return [k for k in range(1, n + 1) if math.gcd(k, n) == 1]
+
+
+def remains(n, powers):
+    top = len(LEAST[n]) - 1
+    rest = split(powers, LEAST[n])[1]
+    return tuple(rest) + (0,) * (top - len(rest))
+
+
+def moved(n, one, k):
+    """Each power j taken as the power j * k, by the rest by n."""
+    powers = [0] * n
+    for j, x in enumerate(one):
+        powers[j * k % n] += x
+    return remains(n, powers)
+
+
+def stretched(n, one, m):
+    powers = [0] * m
+    for j, x in enumerate(one):
+        powers[j * (m // n)] = x
+    return remains(m, powers)
+
+
+def multiplied(one, other):
+    powers = [0] * (len(one) + len(other))
+    for i, x in enumerate(one):
+        for j, y in enumerate(other):
+            powers[i + j] += x * y
+    return powers
+
+
+def some_number(n, chance, most=50):
+    return tuple(chance.choice((0, chance.randint(-most, most))) for k in coprime(n))
+
+
+def wholly(n, k):
+    return tuple(k if j == 0 else 0 for j, x in enumerate(coprime(n)))
+
+
+class Facts:
+    """Of a group, by hand: its round, classes, sizes, and counts."""
+
+    def __init__(self, group):
+        rounds = [[k for k in range(1, 61) if naive_power(group, a, k) == 0][0] for a in range(len(group))]
+        self.count = len(group)
+        self.n = math.lcm(*rounds)
+        self.classes = naive_classes(group)
+        self.sizes = tuple(len(members) for members in self.classes)
+        self.numbers = tuple(
+            [k for k, members in enumerate(self.classes) if a in members][0] for a in range(len(group)))
+        self.counts = [[[0] * len(self.classes) for j in self.classes] for i in self.classes]
+        leasts = {members[0]: k for k, members in enumerate(self.classes)}
+        for x, row in enumerate(group):
+            for y, z in enumerate(row):
+                if z in leasts:
+                    self.counts[self.numbers[x]][self.numbers[y]][leasts[z]] += 1
+
+
+@functools.lru_cache(maxsize=None)
+def facts(group):
+    return Facts(group)
+
+
+def some_rounds(group):
+    """The group's round, two and three times it, and the greatest number to 60 that it divides."""
+    n = facts(group).n
+    return sorted({k for k in (n, 2 * n, 3 * n, 60 // n * n) if k <= 60})
+
+
+def some_spread(group, n, chance, most=50):
+    return tuple(some_number(n, chance, most) for members in facts(group).classes)
+
+
+def ones(group, n):
+    return tuple(wholly(n, 1) for members in facts(group).classes)
+
+
+def looks_so(group, n, thing):
+    """Whether a thing is a spread of n, which the group's round divides: kinds and lengths, within, too."""
+    return type(thing) is tuple and len(thing) == len(facts(group).classes) and all(
+        type(number) is tuple and len(number) == len(coprime(n)) and all(type(x) is int for x in number)
+        for number in thing)
+
+
+def added(n, numbers):
+    """NUMBERs of n added up."""
+    found = wholly(n, 0)
+    for number in numbers:
+        found = tuple(x + y for x, y in zip(found, number))
+    return found
+
+
+def often(number, k):
+    return tuple(x * k for x in number)
+
+
+def naive_meeting(group, n, one, other):
+    """Class by class: size times the one's number times the other's, flipped."""
+    return added(n, [
+        often(remains(n, multiplied(x, moved(n, y, -1))), size) for size, x, y in zip(facts(group).sizes, one, other)])
+
+
+@functools.lru_cache(maxsize=None)
+def naive_fault(group, spread):
+    """The first of the words of point 40 that holds of a spread of the group's round, or None where it is pure."""
+    known = facts(group)
+    n = known.n
+    if any(spread[0][1:]) or spread[0][0] < 1:
+        return "first"
+    for i, one in enumerate(known.sizes):
+        for j, other in enumerate(known.sizes):
+            product = often(remains(n, multiplied(spread[i], spread[j])), one * other)
+            total = added(n, [
+                often(number, k * size) for k, size, number in zip(known.counts[i][j], known.sizes, spread) if k])
+            if product != remains(n, multiplied(spread[0], total)):
+                return "products"
+    if naive_meeting(group, n, spread, spread) != wholly(n, known.count):
+        return "meeting"
+    return None
+
+
+def naive_pure(group, thing):
+    return looks_so(group, facts(group).n, thing) and naive_fault(group, thing) is None

@@ -8,68 +8,11 @@ from classtab.exact import (
     divided, flipped, is_number, less, narrowed, number_of, places, plus, scaled, times, turned, whole, whole_of,
     widened,
 )
-from tests.helper import plain_things, told, untouched
+from tests.helper import (
+    LEAST, coprime, moved, multiplied, plain_things, remains, some_number, stretched, told, untouched,
+)
 
 ALL_N = range(1, 61)
-
-
-def split(powers, divisor):
-    """What comes, and what remains, when a sum is divided by one with 1 at its highest power."""
-    rest = list(powers)
-    came = [0] * max(0, len(rest) - len(divisor) + 1)
-    for k in reversed(range(len(came))):
-        came[k] = rest[k + len(divisor) - 1]
-        for j, x in enumerate(divisor):
-            rest[k + j] -= came[k] * x
-    return came, rest[:len(divisor) - 1]
-
-
-LEAST = {1: [-1, 1]}
-for size in range(2, 61):
-    left = [-1] + [0] * (size - 1) + [1]
-    for lesser in range(1, size):
-        if size % lesser == 0:
-            left, nothing = split(left, LEAST[lesser])
-            if any(nothing):
-                raise ArithmeticError("nothing remains")
-    LEAST[size] = left
-
-
-def coprime(n):
-    return [k for k in range(1, n + 1) if math.gcd(k, n) == 1]
-
-
-def remains(n, powers):
-    top = len(LEAST[n]) - 1
-    rest = split(powers, LEAST[n])[1]
-    return tuple(rest) + (0,) * (top - len(rest))
-
-
-def moved(n, one, k):
-    """Each power j taken as the power j * k, by the rest by n."""
-    powers = [0] * n
-    for j, x in enumerate(one):
-        powers[j * k % n] += x
-    return remains(n, powers)
-
-
-def stretched(n, one, m):
-    powers = [0] * m
-    for j, x in enumerate(one):
-        powers[j * (m // n)] = x
-    return remains(m, powers)
-
-
-def multiplied(one, other):
-    powers = [0] * (len(one) + len(other))
-    for i, x in enumerate(one):
-        for j, y in enumerate(other):
-            powers[i + j] += x * y
-    return powers
-
-
-def some_number(n, chance, most=50):
-    return tuple(chance.choice((0, chance.randint(-most, most))) for k in coprime(n))
 
 
 def is_prime(p):
