@@ -1,11 +1,17 @@
 """Classes of a group: the things that can be turned into one another."""
 
 from classtab.groups import back, power
+from classtab.helper import holders
+
+
+def turned_by(group, b, t):
+    """A thing b turned by t."""
+    return group[group[t][b]][back(group, t)]
 
 
 def turnings(group, b):
     """All that a thing can be turned into, a tuple, rising."""
-    return tuple(sorted(set([group[group[t][b]][back(group, t)] for t in range(len(group))])))
+    return tuple(sorted(set([turned_by(group, b, t) for t in range(len(group))])))
 
 
 def classes_of(group):
@@ -22,11 +28,7 @@ def classes_of(group):
 
 def class_numbers(group):
     """For each thing the number of its class."""
-    numbers = [0] * len(group)
-    for k, members in enumerate(classes_of(group)):
-        for a in members:
-            numbers[a] = k
-    return tuple(numbers)
+    return holders(classes_of(group), len(group))
 
 
 def sizes_of(group):

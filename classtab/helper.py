@@ -1,4 +1,4 @@
-"""What several modules need: whole numbers, all that can be reached, tables by numbers."""
+"""What several modules need: whole numbers, all that can be reached, things by their numbers."""
 
 MOST_THINGS = 60
 
@@ -33,11 +33,26 @@ def reached(start, onward, most):
     return sorted(seen)
 
 
-def tabled(things, product):
-    """The table of some unlike things by their numbers, product(a, b) being what comes of two."""
+def numbered(things):
+    """For each of some unlike things its number."""
     numbers = {}
     for k, thing in enumerate(things):
         numbers[thing] = k
+    return numbers
+
+
+def holders(bundles, count):
+    """For each thing from 0 to below count the number of the bundle in which it is."""
+    numbers = [0] * count
+    for k, members in enumerate(bundles):
+        for a in members:
+            numbers[a] = k
+    return tuple(numbers)
+
+
+def tabled(things, product):
+    """The table of some unlike things by their numbers, product(a, b) being what comes of two."""
+    numbers = numbered(things)
     rows = []
     for a in things:
         rows.append(tuple([numbers[product(a, b)] for b in things]))

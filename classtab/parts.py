@@ -2,7 +2,7 @@
 
 from classtab.classes import class_numbers, classes_of, turnings
 from classtab.errors import NoPart
-from classtab.helper import are_things, reached, tabled
+from classtab.helper import are_things, holders, reached, tabled
 
 
 def is_part(group, thing):
@@ -51,8 +51,5 @@ def over(group, part):
     if not is_kept(group, part):
         raise NoPart("the part is not kept")
     found = sides(group, part)
-    leasts = {}
-    for side in found:
-        for a in side:
-            leasts[a] = side[0]
-    return tabled([side[0] for side in found], lambda a, b: leasts[group[a][b]])
+    lies = holders(found, len(group))
+    return tuple([tuple([lies[group[one[0]][other[0]]] for other in found]) for one in found])

@@ -152,6 +152,40 @@ def turn(group, b, t):
     return group[group[t][b]][group[t].index(0)]
 
 
+def part_by_hand(group, things, kept):
+    """All times of all with all, and where it is to be kept all turned by all, until nothing new comes."""
+    found = {0} | set(things)
+    while True:
+        more = found | {group[a][b] for a in found for b in found}
+        if kept:
+            more = more | {turn(group, a, t) for a in found for t in range(len(group))}
+        if more == found:
+            return tuple(sorted(found))
+        found = more
+
+
+def some_parts(group):
+    """Parts made by hand of at most two things: (0,), all things, kept ones and others."""
+    found = {(0,), tuple(range(len(group)))}
+    chance = random.Random(len(group))
+    for case in range(8):
+        found.add(part_by_hand(group, [chance.randrange(len(group)) for k in range(1 + case % 2)], False))
+    return sorted(found)
+
+
+def sides_by_hand(group, part):
+    found = []
+    for a in range(len(group)):
+        side = tuple(sorted(group[a][h] for h in part))
+        if side not in found:
+            found.append(side)
+    return tuple(found)
+
+
+def inside_by_hand(group, part):
+    return tuple(tuple(part.index(group[a][b]) for b in part) for a in part)
+
+
 def naive_classes(group):
     found = []
     for b in range(len(group)):
@@ -347,3 +381,53 @@ def naive_fault(group, spread):
 
 def naive_pure(group, thing):
     return looks_so(group, facts(group).n, thing) and naive_fault(group, thing) is None
+
+
+def places_of(group, part):
+    """The deed on the sides of a part, by hand: each side with all its things."""
+    found = sides_by_hand(group, part)
+    return tuple(
+        tuple(found.index(tuple(sorted(group[a][x] for x in side))) for side in found) for a in range(len(group)))
+
+
+def on_all(group):
+    """Each thing b goes to a times b."""
+    return tuple(tuple(group[a][b] for b in range(len(group))) for a in range(len(group)))
+
+
+def turning(group):
+    return tuple(tuple(turn(group, b, a) for b in range(len(group))) for a in range(len(group)))
+
+
+def staying(group, places):
+    return (tuple(range(places)),) * len(group)
+
+
+def some_deeds(group):
+    """Deeds of at most 24 places, by hand."""
+    found = [staying(group, 1), staying(group, 3), staying(group, 24)]
+    found.extend(places_of(group, part) for part in some_parts(group) if len(group) <= 24 * len(part))
+    if len(group) <= 24:
+        found.extend([on_all(group), turning(group)])
+    return found
+
+
+def naive_pieces(deed):
+    """Places are brought to one another step by step, until nothing new comes."""
+    found = []
+    for i in range(len(deed[0])):
+        piece = {i}
+        while True:
+            more = piece | {perm[j] for perm in deed for j in piece}
+            if more == piece:
+                break
+            piece = more
+        if tuple(sorted(piece)) not in found:
+            found.append(tuple(sorted(piece)))
+    return tuple(found)
+
+
+def naive_traces(group, deed):
+    known = facts(group)
+    return tuple(
+        wholly(known.n, sum(1 for i in range(len(deed[0])) if deed[members[-1]][i] == i)) for members in known.classes)

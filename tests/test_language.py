@@ -1,6 +1,7 @@
 """The package keeps to its part of Python: the rules that can be seen at a file's form."""
 
 import ast
+import builtins
 import pathlib
 import re
 import unittest
@@ -35,6 +36,11 @@ def bound_names(tree):
             yield node.name
         elif isinstance(node, ast.Attribute) and isinstance(node.ctx, ast.Store):
             yield node.attr
+
+
+def called(node):
+    """The name of what a call calls."""
+    return node.func.id if isinstance(node.func, ast.Name) else getattr(node.func, "attr", None)
 
 
 class Language(unittest.TestCase):
@@ -96,6 +102,52 @@ class Language(unittest.TestCase):
             for node in ast.walk(tree):
                 if isinstance(node, ast.Name) and path.name != "__main__.py":
                     self.assertIn(node.id, known, (path.name, node.lineno))
+
+    def test_walked_at_once(self):
+        walkers = ("list", "tuple", "dict", "sorted", "sum", "any", "all", "enumerate", "zip", "min", "max")
+        for path, tree in self.each_tree():
+            fit = []
+            for node in ast.walk(tree):
+                if isinstance(node, (ast.For, ast.comprehension)):
+                    fit.append(node.iter)
+                if isinstance(node, ast.Call) and node.args:
+                    if isinstance(node.func, ast.Name) and node.func.id in walkers:
+                        fit.append(node.args[0])
+                    if isinstance(node.func, ast.Attribute) and node.func.attr == "join":
+                        fit.append(node.args[0])
+            for node in ast.walk(tree):
+                if isinstance(node, ast.Call) and called(node) in (
+                        "range", "zip", "enumerate", "reversed", "items", "keys", "values"):
+                    self.assertIn(node, fit, (path.name, node.lineno))
+
+    def test_sets(self):
+        for path, tree in self.each_tree():
+            fit = []
+            for node in ast.walk(tree):
+                if isinstance(node, ast.Compare):
+                    fit.extend([node.left] + node.comparators)
+                if isinstance(node, ast.BinOp):
+                    fit.extend([node.left, node.right])
+                if isinstance(node, ast.Call) and called(node) in ("sorted", "len") and not node.keywords:
+                    fit.extend(node.args)
+            for node in ast.walk(tree):
+                self.assertNotIsInstance(node, ast.Set, (path.name, getattr(node, "lineno", 0)))
+                if isinstance(node, ast.Call) and called(node) in ("set", "frozenset"):
+                    self.assertIn(node, fit, (path.name, node.lineno))
+
+    def test_locals(self):
+        for path, tree in self.each_tree():
+            taken = set(dir(builtins))
+            for node in tree.body:
+                if isinstance(node, ast.ImportFrom):
+                    taken.update(alias.asname or alias.name for alias in node.names)
+                if isinstance(node, ast.ClassDef):
+                    taken.add(node.name)
+            for node in ast.walk(tree):
+                if isinstance(node, ast.Name) and isinstance(node.ctx, ast.Store):
+                    self.assertNotIn(node.id, taken, (path.name, node.lineno))
+                if isinstance(node, ast.arg):
+                    self.assertNotIn(node.arg, taken, (path.name, node.lineno))
 
     def test_imports(self):
         drawn = {}

@@ -7,22 +7,13 @@ import unittest
 from classtab.errors import NoPart
 from classtab.groups import ask_group
 from classtab.parts import classes_in, inside, is_kept, is_part, kept_by, over, part_by, sides
-from tests.helper import cyclic, naive_classes, plain_things, sample_groups, told, turn, twisted, untouched
+from tests.helper import (
+    cyclic, inside_by_hand, naive_classes, part_by_hand, plain_things, sample_groups, sides_by_hand, some_parts, told,
+    turn, twisted, untouched,
+)
 
 GROUPS = sample_groups()
 SMALL = ("one", "two", "three", "twos", "six", "s3", "s3 shuffled", "d4", "d4 shuffled", "q8", "eight shuffled")
-
-
-def part_by_hand(group, things, kept):
-    """All times of all with all, and where it is to be kept all turned by all, until nothing new comes."""
-    found = {0} | set(things)
-    while True:
-        more = found | {group[a][b] for a in found for b in found}
-        if kept:
-            more = more | {turn(group, a, t) for a in found for t in range(len(group))}
-        if more == found:
-            return tuple(sorted(found))
-        found = more
 
 
 def closed(group, things):
@@ -37,15 +28,6 @@ def subsets(group):
     for size in range(len(group) + 1):
         for things in itertools.combinations(range(len(group)), size):
             yield things
-
-
-def some_parts(group):
-    """Parts made by hand of at most two things: (0,), all things, kept ones and others."""
-    found = {(0,), tuple(range(len(group)))}
-    chance = random.Random(len(group))
-    for case in range(8):
-        found.add(part_by_hand(group, [chance.randrange(len(group)) for k in range(1 + case % 2)], False))
-    return sorted(found)
 
 
 PARTS = [(name, group, part) for name, group in GROUPS.items() for part in some_parts(group)]
@@ -154,12 +136,7 @@ class LeastParts(unittest.TestCase):
 class Sides(unittest.TestCase):
     def test_sides(self):
         for name, group, part in PARTS:
-            want = []
-            for a in range(len(group)):
-                side = tuple(sorted(group[a][h] for h in part))
-                if side not in want:
-                    want.append(side)
-            told(self, untouched(self, sides, group, part), tuple(want))
+            told(self, untouched(self, sides, group, part), sides_by_hand(group, part))
 
     def test_known(self):
         told(self, sides(GROUPS["s3"], (0, 1)), ((0, 1), (2, 3), (4, 5)))
@@ -172,14 +149,13 @@ class Sides(unittest.TestCase):
 class OwnGroup(unittest.TestCase):
     def test_inside(self):
         for name, group, part in PARTS:
-            want = tuple(tuple(part.index(group[a][b]) for b in part) for a in part)
             got = untouched(self, inside, group, part)
-            told(self, got, want)
+            told(self, got, inside_by_hand(group, part))
             self.assertIs(ask_group(got), True)
 
     def test_classes_in(self):
         for name, group, part in PARTS:
-            own = tuple(tuple(part.index(group[a][b]) for b in part) for a in part)
+            own = inside_by_hand(group, part)
             whole_ones = naive_classes(group)
             want = []
             for members in naive_classes(own):
@@ -205,11 +181,7 @@ class Over(unittest.TestCase):
                     untouched(self, over, group, part)
                 continue
             got = untouched(self, over, group, part)
-            found = []
-            for a in range(len(group)):
-                side = tuple(sorted(group[a][h] for h in part))
-                if side not in found:
-                    found.append(side)
+            found = sides_by_hand(group, part)
             want = tuple(
                 tuple([k for k, s in enumerate(found) if group[one[-1]][other[-1]] in s][0] for other in found)
                 for one in found)
