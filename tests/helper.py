@@ -2,7 +2,10 @@
 
 import functools
 import math
+import pathlib
 import random
+import subprocess
+import sys
 
 
 def cyclic(n):
@@ -85,7 +88,8 @@ def on_vectors(q, makers):
 def few_classes():
     """Groups of 1 to 60 things with at most sixteen classes, by names."""
     found = {
-        "one": cyclic(1), "two": cyclic(2), "three": cyclic(3), "four": cyclic(4), "twos": pairs_of(cyclic(2), cyclic(2)),
+        "one": cyclic(1), "two": cyclic(2), "three": cyclic(3), "four": cyclic(4),
+        "twos": pairs_of(cyclic(2), cyclic(2)),
         "six": cyclic(6), "eight": cyclic(8), "twelve": cyclic(12), "sixteen": cyclic(16),
         "s3": symmetric(3), "d4": twisted(4, 2, 3), "q8": twisted(4, 2, 3, 2), "d5": twisted(5, 2, 4),
         "a4": alternating(4), "d6": twisted(6, 2, 5), "dic3": twisted(6, 2, 5, 3), "f20": twisted(5, 4, 2),
@@ -227,6 +231,14 @@ def refused(test, error, fields, ask, *things):
         untouched(test, ask, *things)
     test.assertIs(type(caught.exception), error)
     told(test, {name: getattr(caught.exception, name) for name in fields}, fields)
+
+
+def drawn_by(name):
+    """All modules of the package that stand ready when one alone has been imported by a fresh Python."""
+    lines = f"import sys, classtab.{name}; print([key for key in sys.modules if key.startswith('classtab.')])"
+    here = pathlib.Path(__file__).resolve().parent.parent
+    done = subprocess.run([sys.executable, "-c", lines], cwd=here, capture_output=True, text=True, check=True)
+    return done.stdout
 
 
 def split(powers, divisor):

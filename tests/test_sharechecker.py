@@ -8,8 +8,8 @@ from classtab.sharechecker import lets_shares
 from classtab.shares import share_paper, shares_of
 from classtab.tables import table_of
 from tests.helper import (
-    cyclic, facts, few_classes, looks_so, multiplied, naive_fault, naive_traces, often, ones, plain_things, refused,
-    remains, some_deeds, some_spread, symmetric, told, untouched, wholly, with_orders,
+    cyclic, drawn_by, facts, few_classes, looks_so, multiplied, naive_fault, naive_traces, often, ones, plain_things,
+    refused, remains, some_deeds, some_spread, symmetric, told, untouched, wholly, with_orders,
 )
 
 GROUPS = with_orders(few_classes())
@@ -122,8 +122,9 @@ class LetsShares(unittest.TestCase):
                 paper + (None,), paper + ((),), paper + (row,), paper + (k,), dict(enumerate(paper)),
             ]
             entries = [
-                [row, k], (row,), (k, row), (row, k, k), (row, k, None), (), row, k, None, "1", {row: k}, (list(row), k),
-                (row[:-1], k), (row + row[-1:], k), (None, k), (k, k), ("row", k), ((), k), ((row,), k), (row, None),
+                [row, k], (row,), (k, row), (row, k, k), (row, k, None), (), row, k, None, "1", {row: k},
+                (list(row), k), (row[:-1], k), (row + row[-1:], k), (None, k), (k, k), ("row", k), ((), k),
+                ((row,), k), (row, None),
                 (row, "1"), (row, (k,)), (row, [k]), (row, True), (row, False), (row, 0), (row, -1), (row, -k),
                 (row[:-1] + (list(row[-1]),), k), (row[:-1] + (row[-1] + (0,),), k), (row[:-1] + (1,), k),
                 (row[:-1] + (row[-1][:-1] + (True,),), k), (row[:-1] + (row[-1][:-1] + (None,),), k),
@@ -240,6 +241,11 @@ class LetsShares(unittest.TestCase):
                     other = shares[:k] + (shares[k] + step,) + shares[k + 1:]
                     paper = tuple((row, share) for row, share in zip(table, other) if share)
                     self.assertIn(self.ask(group, spread, paper), ("sum", "shape"))
+
+    def test_no_table_is_looked_at(self):
+        drawn = drawn_by("sharechecker")
+        self.assertIn("'classtab.sharechecker'", drawn)
+        self.assertNotIn("'classtab.tables'", drawn)
 
     def test_any_plain_thing(self):
         for thing in plain_things():

@@ -8,8 +8,8 @@ from classtab.errors import NoTable
 from classtab.tablechecker import lets_table
 from classtab.tables import table_of
 from tests.helper import (
-    cyclic, facts, looks_so, naive_fault, often, plain_things, refused, remains, some_spread, symmetric, table_groups,
-    told, untouched, wholly,
+    cyclic, drawn_by, facts, looks_so, naive_fault, often, plain_things, refused, remains, some_spread, symmetric,
+    table_groups, told, untouched, wholly,
 )
 
 GROUPS = table_groups()
@@ -195,6 +195,11 @@ class LetsTable(unittest.TestCase):
             self.ask(GROUPS[one], TABLES[other], TABLES[one])
         for name in ("six", "s3", "d4", "a4", "f21", "s4", "a5", "sl23"):
             self.ask(GROUPS[name], TABLES[name + " shuffled"], TABLES[name])
+
+    def test_no_table_is_sought(self):
+        drawn = drawn_by("tablechecker")
+        self.assertIn("'classtab.tablechecker'", drawn)
+        self.assertNotIn("'classtab.tables'", drawn)
 
     def test_nothing_hangs_on_what_was_asked_before(self):
         for case in range(3):
