@@ -1,4 +1,4 @@
-"""What several modules need: whole numbers, all that can be reached, things by their numbers."""
+"""What several modules need: whole numbers and figures, all that can be reached, things by their numbers."""
 
 MOST_THINGS = 60
 
@@ -11,6 +11,21 @@ def is_whole(thing):
 def are_things(thing, count):
     """Whether a thing is a tuple of whole numbers from 0 to below count."""
     return isinstance(thing, tuple) and all([is_whole(x) and 0 <= x < count for x in thing])
+
+
+def is_order(thing, count):
+    """Whether a thing is a tuple of all whole numbers from 0 to below count, each once, 0 first."""
+    return are_things(thing, count) and len(thing) == count and len(set(thing)) == count and thing[0] == 0
+
+
+def are_figures(text):
+    """Whether a text is of one or more figures alone."""
+    return text != "" and all([sign in "0123456789" for sign in text])
+
+
+def is_by_figures(text):
+    """Whether a text is a whole number by figures, with no 0 ahead but for 0 itself."""
+    return are_figures(text) and (text == "0" or not text.startswith("0"))
 
 
 def reached(start, onward, most):

@@ -1,7 +1,7 @@
 """Groups made: by perms, of two others put together, and by another order of the things."""
 
 from classtab.errors import NoOrder, NoPerm, TooMany
-from classtab.helper import MOST_THINGS, are_things, reached, tabled
+from classtab.helper import MOST_THINGS, is_order, reached, tabled
 from classtab.perms import is_perm, perm_times
 
 
@@ -36,16 +36,8 @@ def together(one, other):
     return tabled(list(range(len(one) * count)), product)
 
 
-def is_order(group, thing):
-    """Whether any plain thing is a tuple of all things of a group, 0 first."""
-    count = len(group)
-    if not are_things(thing, count) or len(thing) != count:
-        return False
-    return len(set(thing)) == count and thing[0] == 0
-
-
 def renamed(group, order):
     """The group whose thing number k is order[k] of this one."""
-    if not is_order(group, order):
+    if not is_order(order, len(group)):
         raise NoOrder("no tuple of all things of the group, 0 first")
     return tabled(order, lambda a, b: group[a][b])

@@ -120,6 +120,18 @@ def table_groups():
     return with_orders(found)
 
 
+def ten_columns():
+    """Groups with ten classes, four of them of one thing and six of two: three sorts of tables."""
+    d4 = twisted(4, 2, 3)
+    both = pairs_of(d4, cyclic(4))
+    # Thing 4 of the eight of the square and 2 of the four are those that are their only squares but 0.
+    return {
+        "d4two": pairs_of(d4, cyclic(2)), "q8two": pairs_of(twisted(4, 2, 3, 2), cyclic(2)),
+        "fourfour": twisted(4, 4, 3), "twosfour": by_perms([(1, 0, 2, 3, 4, 5, 6, 7), (2, 3, 0, 1, 5, 6, 7, 4)]),
+        "d4four": over_by_hand(both, (0, 4 * 4 + 2)),
+    }
+
+
 def sample_groups():
     """Groups of 1 to 60 things, by names; each also with its things in another order."""
     found = few_classes()
@@ -184,6 +196,23 @@ def sides_by_hand(group, part):
         if side not in found:
             found.append(side)
     return tuple(found)
+
+
+def over_by_hand(group, part):
+    """The group of the sides of a kept part."""
+    found = sides_by_hand(group, part)
+    lies = {a: k for k, side in enumerate(found) for a in side}
+    return tuple(tuple(lies[group[one[-1]][other[-1]]] for other in found) for one in found)
+
+
+def kept_by_hand(group):
+    """All kept parts: one more class to each, until nothing new comes."""
+    found = {(0,)}
+    while True:
+        more = found | {part_by_hand(group, part + (a,), True) for part in found for a in range(len(group))}
+        if more == found:
+            return sorted(found)
+        found = more
 
 
 def inside_by_hand(group, part):
@@ -443,3 +472,74 @@ def naive_traces(group, deed):
     known = facts(group)
     return tuple(
         wholly(known.n, sum(1 for i in range(len(deed[0])) if deed[members[-1]][i] == i)) for members in known.classes)
+
+
+def framed(group, table):
+    """A frame, by hand, of a table told by the program."""
+    return (facts(group).n, facts(group).sizes, table)
+
+
+def naive_match(one, other, thing):
+    """Point 70, word by word."""
+    if type(thing) is not tuple or not all(type(d) is int for d in thing):
+        return False
+    if len(thing) != len(one[1]) or sorted(thing) != list(range(len(other[1]))) or thing[0] != 0:
+        return False
+    if one[0] != other[0] or any(size != other[1][d] for size, d in zip(one[1], thing)):
+        return False
+    rows = []
+    for row in one[2]:
+        put = dict(zip(thing, row))
+        rows.append(tuple(put[d] for d in range(len(thing))))
+    return tuple(sorted(rows)) == other[2]
+
+
+def naive_shows(one, other, case, pairs=((0, 0),)):
+    """Point 71, word by word, of any plain thing; how many cases there are is not looked at."""
+    if type(case) is not tuple or not case or type(case[0]) is not str:
+        return False
+    word, rest = case[0], case[1:]
+    if word == "unlike":
+        return not rest and (one[0] != other[0] or len(one[1]) != len(other[1]) or sorted(one[1]) != sorted(other[1]))
+    if word == "rows":
+        if len(rest) != 1 or type(rest[0]) is not int or rest[0] not in range(len(one[2])):
+            return False
+        want = [one[2][rest[0]][c] for c, d in pairs]
+        ours = sum(1 for row in one[2] if [row[c] for c, d in pairs] == want)
+        return ours != sum(1 for row in other[2] if [row[d] for c, d in pairs] == want)
+    if word != "split" or len(rest) != 2 or type(rest[0]) is not int or type(rest[1]) is not tuple:
+        return False
+    c = rest[0]
+    if c not in range(len(one[1])) or c in [pair[0] for pair in pairs]:
+        return False
+    fit = [d for d in range(len(other[1])) if d not in [pair[1] for pair in pairs] and other[1][d] == one[1][c]]
+    return len(fit) == len(rest[1]) and all(
+        naive_shows(one, other, further, pairs + ((c, d),)) for d, further in zip(fit, rest[1]))
+
+
+def cases_in(case):
+    """How many cases there are in all, itself among them."""
+    return 1 + sum(cases_in(further) for further in case[2]) if case[0] == "split" else 1
+
+
+def cases_within(case):
+    """How many stand within one another at most, itself among them."""
+    return 1 + max([cases_within(further) for further in case[2]], default=0) if case[0] == "split" else 1
+
+
+def naive_case(one, other, columns, pairs=((0, 0),)):
+    """A case by splits of these columns, in their order, and rows where they show it; None where there is a match."""
+    for k in range(len(one[2])):
+        if naive_shows(one, other, ("rows", k), pairs):
+            return ("rows", k)
+    if not columns:
+        return None
+    taken = [d for c, d in pairs]
+    cases = []
+    for d, size in enumerate(other[1]):
+        if d not in taken and size == one[1][columns[0]]:
+            case = naive_case(one, other, columns[1:], pairs + ((columns[0], d),))
+            if case is None:
+                return None
+            cases.append(case)
+    return ("split", columns[0], tuple(cases))
