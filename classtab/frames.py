@@ -12,9 +12,7 @@ def frame_of(group, table):
 
 def is_match(one, other, thing):
     """Whether any plain thing tells, for each column of a frame, the column of another one on which it lies."""
-    if one[0] != other[0] or len(one[1]) != len(other[1]) or not is_order(thing, len(one[1])):
-        return False
-    if laid(one[1], thing) != other[1]:
+    if one[0] != other[0] or not is_order(thing, len(one[1])) or laid(one[1], thing) != other[1]:
         return False
     return tuple(sorted([laid(row, thing) for row in one[2]])) == other[2]
 

@@ -61,8 +61,8 @@ def roots_of(group, table):
 def counts_by(n, sizes, rows):
     """The counts of some group, by the sizes of its classes and its table alone.
 
-    All is taken by the rests by a prime p, with a root of n among the rests: no count is above the group's
-    count, and p is above that, so that the rest tells the count exactly.
+    All is taken by the rests by a prime p, with a root of n among the rests. No counts are above the group's
+    own count, and p is above twice that; so the rests tell them exactly.
     """
     count = sum(sizes)
     p = fit_prime(n, count * count)

@@ -4,6 +4,7 @@ import functools
 import math
 import pathlib
 import random
+import re
 import subprocess
 import sys
 
@@ -543,3 +544,45 @@ def naive_case(one, other, columns, pairs=((0, 0),)):
                 return None
             cases.append(case)
     return ("split", columns[0], tuple(cases))
+
+
+def naive_shown(number):
+    """Point 76: its places that aren't 0, in order."""
+    found = ""
+    for power, k in enumerate(number):
+        if k:
+            text = str(k)
+            if power and abs(k) == 1:
+                text = text[:-1]
+            text += "" if power == 0 else "z" if power == 1 else f"z{power}"
+            found += text if k < 0 or not found else "+" + text
+    return found or "0"
+
+
+def naive_read(n, text):
+    """The NUMBER by the form of each place; None where the text has another form."""
+    if text == "0":
+        return wholly(n, 0)
+    found = [0] * len(coprime(n))
+    least = 0
+    rest = text
+    while rest or not least:
+        place = re.match(r"([+-]?)([1-9][0-9]*)?(z(?:([2-9]|[1-9][0-9]+)(?![0-9]))?)?", rest)
+        sign, figures, z, high = place.groups()
+        power = 0 if not z else int(high) if high else 1
+        if (not figures and not z) or (figures == "1" and z) or (sign == "+") == (not least) and sign != "-":
+            return None
+        if power < least or power >= len(found):
+            return None
+        found[power] = int(sign + (figures or "1"))
+        least = power + 1
+        rest = rest[place.end():]
+    return tuple(found)
+
+
+def naive_lines(frame):
+    """Point 77's lines."""
+    lines = ["table " + " ".join(str(x) for x in (frame[0],) + frame[1])]
+    for row in frame[2]:
+        lines.append("row " + " ".join(naive_shown(number) for number in row))
+    return lines

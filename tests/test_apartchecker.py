@@ -135,8 +135,9 @@ class LetsApart(unittest.TestCase):
             self.yes(FRAMES[one], FRAMES[other], ("alike", match))
             m = len(match)
             wrong = [
-                list(match), match[:-1], match + (m,), match[:-1] + (m,), match[:-1] + (-1,), None, 0, True, "alike", (),
-                (match,), str(match), dict(enumerate(match)), (False,) + match[1:], match[:-1] + (None,), match + match,
+                list(match), match[:-1], match + (m,), match[:-1] + (m,), match[:-1] + (-1,), None, 0, True, "alike",
+                (), (match,), str(match), dict(enumerate(match)), (False,) + match[1:], match[:-1] + (None,),
+                match + match,
             ]
             if m > 1:
                 wrong.extend([match[:-1] + (0,), match[1:] + match[:1], (match[1], 0) + match[2:]])
@@ -181,7 +182,8 @@ class LetsApart(unittest.TestCase):
     def test_which_of_the_three_is_unlike(self):
         sizes, rows = FRAMES["four"][1:]
         for one, other in (((4, sizes, rows), (8, sizes, rows)), ((4, (1, 1, 1, 2), rows), (4, sizes, rows)),
-                           ((4, (1, 1, 1), rows), (4, sizes, rows)), ((4, (1, 2, 1, 3), rows), (4, (1, 3, 1, 2, 1), rows))):
+                           ((4, (1, 1, 1), rows), (4, sizes, rows)),
+                           ((4, (1, 2, 1, 3), rows), (4, (1, 3, 1, 2, 1), rows))):
             self.yes(one, other, ("unlike", ("unlike",)))
         self.no((4, (1, 2, 1, 3), rows), (4, (1, 3, 1, 2), rows), ("unlike", ("unlike",)), "case")
         self.no((4, (1, 1, 2, 2), rows), (4, (1, 2, 1, 2), rows), ("unlike", ("unlike",)), "case")

@@ -69,8 +69,9 @@ class IsMatch(unittest.TestCase):
         met = set()
         for one, other in (("s3", "s3 shuffled"), ("d4", "q8"), ("q8 shuffled", "d4"), ("a4", "a4 shuffled"),
                            ("twos", "twos shuffled"), ("four", "twos"), ("four", "four shuffled"), ("f20", "f20"),
-                           ("f21 shuffled", "f21"), ("s4", "s4 shuffled"), ("a5", "a5 shuffled"), ("six", "six shuffled"),
-                           ("f20", "f21"), ("d5", "d5 shuffled"), ("dic3", "d6"), ("one", "one"), ("two", "two")):
+                           ("f21 shuffled", "f21"), ("s4", "s4 shuffled"), ("a5", "a5 shuffled"),
+                           ("six", "six shuffled"), ("f20", "f21"), ("d5", "d5 shuffled"), ("dic3", "d6"),
+                           ("one", "one"), ("two", "two")):
             for thing in itertools.permutations(range(len(FRAMES[one][1]))):
                 met.add((one, self.ask(FRAMES[one], FRAMES[other], thing)))
         for name in ("s3", "d4", "q8 shuffled", "a4", "twos", "four", "f20", "f21 shuffled", "s4", "a5", "six"):

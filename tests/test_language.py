@@ -23,6 +23,16 @@ NO_WORDS = re.compile(
     r"NamedTuple|TypedDict|TYPE_CHECKING|abstractmethod)\b|dataclass|overload|contextmanager"
 )
 METHODS = ("__init__", "__eq__", "__repr__", "__str__", "__len__")
+VALUE_METHODS = set(
+    "append clear copy count endswith extend find get index insert isalnum isalpha isdigit islower isspace isupper "
+    "items join keys ljust lower lstrip partition pop remove replace reverse rfind rjust rpartition rsplit rstrip "
+    "setdefault split splitlines startswith strip update upper values zfill bit_length".split()
+)
+KEYWORDS = {
+    "sorted": ("key", "reverse"), "min": ("key", "default"), "max": ("key", "default"), "sum": ("start",),
+    "enumerate": ("start",), "zip": ("strict",),
+}
+NOWHERE = set("register mro elements open input version_info with_traceback add_note format format_map sort".split())
 
 
 def bound_names(tree):
@@ -102,6 +112,77 @@ class Language(unittest.TestCase):
             for node in ast.walk(tree):
                 if isinstance(node, ast.Name) and path.name != "__main__.py":
                     self.assertIn(node.id, known, (path.name, node.lineno))
+
+    def test_top_of_a_module(self):
+        plain = (ast.Constant, ast.List, ast.Tuple, ast.Dict, ast.Name, ast.Load, ast.UnaryOp, ast.USub)
+        for path, tree in self.each_tree():
+            self.assertIsNotNone(ast.get_docstring(tree), path)
+            bound = []
+            for node in tree.body[1:]:
+                where = (path.name, node.lineno)
+                self.assertIsInstance(node, (ast.ImportFrom, ast.FunctionDef, ast.ClassDef, ast.Assign), where)
+                if isinstance(node, ast.Assign):
+                    self.assertTrue(all(isinstance(part, plain) for part in ast.walk(node.value)), where)
+                    bound.append(node.targets[0].id)
+                elif isinstance(node, ast.ImportFrom):
+                    bound.extend(alias.asname or alias.name for alias in node.names)
+                else:
+                    bound.append(node.name)
+            self.assertEqual(len(bound), len(set(bound)), path)
+
+    def test_methods(self):
+        own = set()
+        fields = set()
+        for path, tree in self.each_tree():
+            for node in ast.walk(tree):
+                if isinstance(node, ast.ClassDef):
+                    own.update(part.name for part in node.body if isinstance(part, ast.FunctionDef))
+                if isinstance(node, ast.Attribute) and isinstance(node.ctx, ast.Store):
+                    fields.add(node.attr)
+        self.assertEqual(own & fields, set())
+        for path, tree in self.each_tree():
+            called_ones = [node.func for node in ast.walk(tree) if isinstance(node, ast.Call)]
+            for node in ast.walk(tree):
+                if isinstance(node, ast.Attribute):
+                    where = (path.name, node.lineno, node.attr)
+                    self.assertNotIn(node.attr, NOWHERE, where)
+                    self.assertIn(node.attr, (own | VALUE_METHODS) if node in called_ones else fields, where)
+
+    def test_calls(self):
+        for path, tree in self.each_tree():
+            for node in ast.walk(tree):
+                where = (path.name, getattr(node, "lineno", 0))
+                if isinstance(node, ast.Call):
+                    for keyword in node.keywords:
+                        self.assertIn(keyword.arg, KEYWORDS.get(called(node), ()), where)
+                if isinstance(node, ast.Expr) and not isinstance(node.value, ast.Constant):
+                    self.assertIsInstance(node.value, ast.Call, where)
+                if isinstance(node, ast.Compare):
+                    for op, right in zip(node.ops, node.comparators):
+                        if isinstance(op, (ast.Is, ast.IsNot)):
+                            self.assertIsInstance(right, ast.Constant, where)
+                if isinstance(node, ast.BinOp) and isinstance(node.op, ast.Pow):
+                    self.assertIsInstance(node.right, ast.Constant, where)
+                if isinstance(node, ast.ExceptHandler):
+                    self.assertIsInstance(node.type, ast.Name, where)
+                    self.assertNotIn(node.type.id, ("Exception", "TypeError"), where)
+                if isinstance(node, (ast.AnnAssign, ast.TryStar)):
+                    self.fail(where)
+
+    def test_loops_leave_alone_what_they_walk(self):
+        copies = ("list", "sorted", "tuple", "range")
+        changes = ("append", "clear", "extend", "insert", "pop", "remove", "reverse", "setdefault", "update")
+        for path, tree in self.each_tree():
+            for loop in ast.walk(tree):
+                if not isinstance(loop, ast.For) or (isinstance(loop.iter, ast.Call) and called(loop.iter) in copies):
+                    continue
+                walked = [ast.unparse(node) for node in ast.walk(loop.iter) if hasattr(node, "ctx")]
+                for node in ast.walk(ast.Module(loop.body, [])):
+                    where = (path.name, getattr(node, "lineno", 0))
+                    if isinstance(node, ast.Subscript) and isinstance(node.ctx, ast.Store):
+                        self.assertNotIn(ast.unparse(node.value), walked, where)
+                    if isinstance(node, ast.Call) and called(node) in changes:
+                        self.assertNotIn(ast.unparse(node.func.value), walked, where)
 
     def test_walked_at_once(self):
         walkers = ("list", "tuple", "dict", "sorted", "sum", "any", "all", "enumerate", "zip", "min", "max")

@@ -11,7 +11,8 @@ from classtab.showing import centre, counts_by, down, kernel, kept_parts, roots_
 from classtab.tables import table_of
 from tests.helper import (
     added, alternating, cyclic, facts, few_classes, kept_by_hand, moved, multiplied, often, over_by_hand, pairs_of,
-    part_by_hand, remains, shuffled, symmetric, table_groups, ten_columns, told, twisted, untouched, wholly, with_orders,
+    part_by_hand, remains, shuffled, symmetric, table_groups, ten_columns, told, twisted, untouched, wholly,
+    with_orders,
 )
 
 GROUPS = table_groups()

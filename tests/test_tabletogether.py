@@ -112,11 +112,13 @@ class TableTogether(unittest.TestCase):
         upper = table_together(two, s3, table_of(two), table_of(s3))
         told(self, table_together(pairs_of(two, three), two, one, table_of(two)), table_of(pairs_of(
             pairs_of(two, three), two)))
+        lower = table_together(s3, two, table_of(s3), table_of(two))
         told(self, table_together(pairs_of(two, s3), two, upper, table_of(two)),
-             table_together(two, pairs_of(s3, two), table_of(two), table_together(s3, two, table_of(s3), table_of(two))))
+             table_together(two, pairs_of(s3, two), table_of(two), lower))
 
     def test_too_many(self):
-        for one, other in (("a5", "two"), ("two", "a5"), ("q8", "q8"), ("s3", "d6"), ("f21", "three"), ("four", "sixteen")):
+        for one, other in (
+                ("a5", "two"), ("two", "a5"), ("q8", "q8"), ("s3", "d6"), ("f21", "three"), ("four", "sixteen")):
             first, second = GROUPS[one], GROUPS[other]
             refused(self, TooMany, {}, table_together, first, second, table_of(first), table_of(second))
 
